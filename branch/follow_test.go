@@ -8,6 +8,7 @@ import (
 
 	"coppice/api"
 	"coppice/branch"
+	"coppice/chain"
 	"coppice/leaf"
 )
 
@@ -98,6 +99,12 @@ func TestP5_5NoBodyOfAnotherKind(t *testing.T) {
 		if items, err := leaf.Decode(body); err != api.ErrLeaf {
 			t.Errorf("the body of %v is a leaf's of %d items", w, len(items))
 		}
+		if _, _, err := chain.DecodeData(body); err != api.ErrChain {
+			t.Errorf("the body of %v read as one of a chain: %d", w, err)
+		}
+		if _, _, err := chain.DecodeList(body); err != api.ErrFrees {
+			t.Errorf("the body of %v read as one of frees: %d", w, err)
+		}
 		// What makes the others' bodies begins each with its own kind; no rest makes such a body one of a branch.
 		for _, kind := range []byte{api.Leaf, api.Chain, api.Frees, api.Meta} {
 			body[0] = kind
@@ -114,6 +121,28 @@ func TestP5_5NoBodyOfAnotherKind(t *testing.T) {
 			t.Fatalf("leaf.Encode: %d", err)
 		}
 		wantRefused(t, "a leaf's body", body)
+	}
+}
+
+func TestP5_5NoBodyOfAChain(t *testing.T) {
+	// But for its kind, a chain's body with this next and this data is one of a branch: of level 1, with one kid.
+	data := append([]byte{0, 0, 9, 0, 0, 0}, make([]byte, 4079)...)
+	body, err := chain.EncodeData(257, data)
+	if err != api.OK {
+		t.Fatalf("chain.EncodeData: %d", err)
+	}
+	wantRefused(t, "a chain's body", body)
+	body[0] = api.Branch
+	wantBranch(t, body, wood{1, nil, []api.Kid{kid(4085, 9)}})
+}
+
+func TestP5_5NoBodyOfFrees(t *testing.T) {
+	for _, list := range [][]int{nil, {2}, {2, 5, 300}} {
+		body, err := chain.EncodeList(0, list)
+		if err != api.OK {
+			t.Fatalf("chain.EncodeList: %d", err)
+		}
+		wantRefused(t, "a body of frees", body)
 	}
 }
 
