@@ -10,6 +10,7 @@ import (
 	"coppice/branch"
 	"coppice/chain"
 	"coppice/leaf"
+	"coppice/meta"
 )
 
 func TestP5_5ThereAndBack(t *testing.T) {
@@ -105,6 +106,9 @@ func TestP5_5NoBodyOfAnotherKind(t *testing.T) {
 		if _, _, err := chain.DecodeList(body); err != api.ErrFrees {
 			t.Errorf("the body of %v read as one of frees: %d", w, err)
 		}
+		if _, err := meta.Decode(body); err != api.ErrMeta {
+			t.Errorf("the body of %v read as one of a head: %d", w, err)
+		}
 		// What makes the others' bodies begins each with its own kind; no rest makes such a body one of a branch.
 		for _, kind := range []byte{api.Leaf, api.Chain, api.Frees, api.Meta} {
 			body[0] = kind
@@ -143,6 +147,18 @@ func TestP5_5NoBodyOfFrees(t *testing.T) {
 			t.Fatalf("chain.EncodeList: %d", err)
 		}
 		wantRefused(t, "a body of frees", body)
+	}
+}
+
+func TestP5_5NoBodyOfAHead(t *testing.T) {
+	for _, h := range []api.Head{{Version: 1, Count: 2}, {Version: 258, Count: 300, Root: 7, Height: 2, Keys: 1000, First: 299, Free: 3}} {
+		body, err := meta.Encode(h)
+		if err != api.OK {
+			t.Fatalf("meta.Encode: %d", err)
+		}
+		wantRefused(t, "a head's body", body)
+		body[0] = api.Branch
+		wantRefused(t, "a head's body, but for its kind", body)
 	}
 }
 
