@@ -71,7 +71,7 @@ func orders(n, pages, cap int) [][]int {
 	return all
 }
 
-// TestP12_7AllFates: all fates of up to three writes, in all orders that there are, on disks of no page, one, and two.
+// TestP12_7AllFates: every row of these fates of up to two writes, and of a few of them of three, in all orders that there are, on disks of no page, one, and two.
 func TestP12_7AllFates(t *testing.T) {
 	fates := allFates()
 	for pages := range 3 {
