@@ -226,7 +226,7 @@ func TestP13_2OneFrame(t *testing.T) {
 	}
 }
 
-// TestP13_2Rows: every row of up to five calls, of Reads of four pages and of one that doesn't decode, and of Drops of two, with one to three frames.
+// TestP13_2Rows: one to three frames, and every row of up to two calls more than that (to fill them, to bring another order into them, and to let a page go): Reads of four pages and of one that doesn't decode, Drops of two.
 func TestP13_2Rows(t *testing.T) {
 	calls := []func(b *bench){}
 	for no := range 5 {
@@ -241,7 +241,7 @@ func TestP13_2Rows(t *testing.T) {
 			t.Parallel()
 			b := newBench(t, image, frames)
 			rows := 1
-			for length := 1; length <= 5; length++ {
+			for length := 1; length <= frames+2; length++ {
 				rows *= len(calls)
 				for row := range rows {
 					b.anew()
