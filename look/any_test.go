@@ -44,7 +44,7 @@ func TestAnyTrees(t *testing.T) {
 	for part := range 4 {
 		t.Run(fmt.Sprint(part), func(t *testing.T) {
 			t.Parallel()
-			for seed := range uint64(40) {
+			for seed := range uint64(25) {
 				next := noise(seed*4 + uint64(part))
 				w := thicket(next)
 				b := newBench(t, w.image(), 1+next(len(w.pages)), w.root, w.height)
@@ -59,7 +59,7 @@ func TestP14_8AnyBytes(t *testing.T) {
 	for part := range 8 {
 		t.Run(fmt.Sprint(part), func(t *testing.T) {
 			t.Parallel()
-			for seed := range uint64(100) {
+			for seed := range uint64(60) {
 				next := noise(1000 + seed*8 + uint64(part))
 				w := thicket(next)
 				l := w.asking()

@@ -274,7 +274,7 @@ func TestGroves(t *testing.T) {
 func TestP14_9Map(t *testing.T) {
 	eachGrove(t, func(t *testing.T, g grove) {
 		b := newBench(t, g.w.image(), 20, g.w.root, g.w.height)
-		l := someOf(g.w.asking(), 120)
+		l := someOf(g.w.asking(), 80)
 		next := noise(11)
 		for _, key := range l {
 			if len(key) > 0 && len(key) <= api.MaxKey {
