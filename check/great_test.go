@@ -14,7 +14,7 @@ func TestP15_1Great(t *testing.T) {
 	t.Parallel()
 	b, problem := syscall.Mmap(-1, 0, (api.MaxPages+1)*api.PageSize, syscall.PROT_READ|syscall.PROT_WRITE, syscall.MAP_ANON|syscall.MAP_PRIVATE)
 	if problem != nil {
-		t.Fatal(problem)
+		t.Skipf("no room for a file of all pages: %v", problem)
 	}
 	defer syscall.Munmap(b)
 	lay := func(no int, p api.Page) {
